@@ -6,16 +6,14 @@ import (
 	"foliant/api"
 	"foliant/area"
 	"foliant/bits"
+	"foliant/fault"
 )
 
-const (
-	maxSize   = 8 // bytes that are reached for at once: never in more than two pages
-	instrSize = 8 // where an instruction may begin
-)
+const maxSize = 8 // bytes that are reached for at once: never in more than two pages
 
 // reach: the frames of the pages that have these bytes, in order; none, with a fault.
 func (m *memory) reach(space, addr, size, way int) ([]int, api.Fault) {
-	if f := m.fault(space, addr, size, way); f.Kind != api.NoFault {
+	if f := fault.Of(m.Spaces[space].Areas, addr, size, way); f.Kind != api.NoFault {
 		return nil, f
 	}
 	var frames []int
@@ -24,35 +22,6 @@ func (m *memory) reach(space, addr, size, way int) ([]int, api.Fault) {
 		frames = append(frames, m.bring(space, page, way, frames))
 	}
 	return frames, api.Fault{}
-}
-
-// fault: addr + n can't go round: no byte near the greatest int is mapped, so that the first one is told.
-func (m *memory) fault(space, addr, size, way int) api.Fault {
-	if way == api.ToRun && addr%instrSize != 0 {
-		return api.Fault{Kind: api.FaultAlign, Addr: addr}
-	}
-	for n := range size {
-		at := addr + n
-		a, ok := area.Find(m.Spaces[space].Areas, at/api.PageSize)
-		if at < 0 || !ok {
-			return api.Fault{Kind: api.FaultMap, Addr: at}
-		}
-		if a.Prot&right(way) != right(way) {
-			return api.Fault{Kind: api.FaultRight, Addr: at}
-		}
-	}
-	return api.Fault{}
-}
-
-// right is what an area must have in its Prot; to read needs nothing.
-func right(way int) int {
-	switch way {
-	case api.ToWrite:
-		return api.Write
-	case api.ToRun:
-		return api.Exec
-	}
-	return 0
 }
 
 // bring: the frame in which the page is now.
@@ -77,7 +46,7 @@ func (m *memory) present(space, page int, held []int) int {
 		m.Frames[at] = api.Frame{Data: m.Slots[e.At].Data, Refs: 1, Dirty: true}
 		m.count(e, -1)
 	} else {
-		a, _ := area.Find(m.Spaces[space].Areas, page) // fault asked for it
+		a, _ := area.Find(m.Spaces[space].Areas, page) // without a fault it is mapped
 		m.Frames[at] = api.Frame{Data: m.fill(page, a.Zero), Refs: 1}
 	}
 	m.enter(space, api.Entry{Page: page, Kind: api.Present, At: at})
