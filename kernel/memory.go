@@ -6,6 +6,7 @@ import (
 
 	"foliant/api"
 	"foliant/area"
+	"foliant/copies"
 )
 
 // memory is a kernel that was found right, and what a page begins with, by the page: a sheet, filled (an empty text, if there is none).
@@ -42,27 +43,7 @@ func openFor(k api.Kernel, space, size, way int, ways ...int) (*memory, api.Errn
 }
 
 // own gives the kernel memory of its own, ahead of the first change: what was handed in is only read.
-func (m *memory) own() { m.Kernel = copyOf(m.Kernel) }
-
-func copyOf(k api.Kernel) api.Kernel {
-	c := api.Kernel{
-		Sheets: slices.Clone(k.Sheets),
-		Frames: slices.Clone(k.Frames),
-		Slots:  slices.Clone(k.Slots),
-		Hand:   k.Hand,
-	}
-	for n, s := range c.Sheets {
-		c.Sheets[n].Fixes = slices.Clone(s.Fixes)
-	}
-	for _, s := range k.Spaces {
-		c.Spaces = append(c.Spaces, copyOfSpace(s))
-	}
-	return c
-}
-
-func copyOfSpace(s api.Space) api.Space {
-	return api.Space{Live: s.Live, Areas: slices.Clone(s.Areas), Entries: slices.Clone(s.Entries)}
-}
+func (m *memory) own() { m.Kernel = copies.Kernel(m.Kernel) }
 
 // pages: how many pages all spaces have mapped.
 func (m *memory) pages() int {
